@@ -1,0 +1,1 @@
+"""Lazyspill: how few words a stack in few registers must move."""

@@ -1,0 +1,86 @@
+"""Traces: their depths and levels, and the calls that they make."""
+
+from lazyspill.checks import MOST_TOP, check_top, check_trace
+from lazyspill.errors import InvalidTrace, NotClosed
+
+
+def is_trace(value):
+    """Return whether any value is a trace."""
+    try:
+        check_trace(value)
+    except InvalidTrace:
+        return False
+    return True
+
+
+def depths_of(trace):
+    """Return the list of the depths at all moments."""
+    check_trace(trace)
+    depth = 0
+    depths = [depth]
+    for step in trace:
+        depth += 1 if step == "+" else -1
+        depths.append(depth)
+    return depths
+
+
+def levels_above(depths, top):
+    """Return the list of the levels for a list of depths; `top` is any integer from 0 on."""
+    return [max(0, depth - top) for depth in depths]
+
+
+def levels_of(trace, top):
+    """Return the list of the levels at all moments."""
+    check_trace(trace)
+    check_top(top, MOST_TOP)
+    return levels_above(depths_of(trace), top)
+
+
+def pops_of(levels):
+    """Return a dict from the step that pushes a call to the step that pops it, without the open calls."""
+    pops = {}
+    unpopped = []
+    for step in range(len(levels) - 1):
+        if levels[step] < levels[step + 1]:
+            unpopped.append(step)
+        elif levels[step] > levels[step + 1]:
+            pops[unpopped.pop()] = step
+    return pops
+
+
+def heights_of(levels):
+    """Return the list of the heights of calls, for the list of their levels in the order of their pushes."""
+    heights = []
+    # From the last call on: for each level, the greatest height of the calls so far that are
+    # directly in a call still to come.
+    inner = {}
+    for level in levels[::-1]:
+        height = inner.pop(level + 1, 0) + 1
+        inner[level] = max(inner.get(level, 0), height)
+        heights.append(height)
+    return heights[::-1]
+
+
+def calls_of(trace, top):
+    """Return the list of the calls as tuples (push, pop or None, level, height) in the order of their pushes."""
+    levels = levels_of(trace, top)
+    pops = pops_of(levels)
+    pushes = [step for step in range(len(trace)) if levels[step] < levels[step + 1]]
+    call_levels = [levels[push + 1] for push in pushes]
+    heights = heights_of(call_levels)
+    return [
+        (push, pops.get(push), level, height)
+        for push, level, height in zip(pushes, call_levels, heights)
+    ]
+
+
+def open_heights(trace, top):
+    """Return the list of the heights of the open calls at the end, the lowest call first."""
+    return [height for push, pop, level, height in calls_of(trace, top) if pop is None]
+
+
+def turned(trace):
+    """Return the closed trace with its steps in the opposite sequence, and `+` and `-` exchanged."""
+    if depths_of(trace)[-1] > 0:
+        raise NotClosed("the trace leaves words on the stack")
+    return "".join(["-" if step == "+" else "+" for step in trace[::-1]])

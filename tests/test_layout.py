@@ -1,0 +1,58 @@
+"""The names and arguments of the interface, and the sizes of the package's files."""
+
+import ast
+import inspect
+import os
+import unittest
+from importlib import import_module
+
+PACKAGE = os.path.join(os.path.dirname(os.path.dirname(os.path.abspath(__file__))), "lazyspill")
+INTERFACE = {
+    "lazyspill.traces": {
+        "is_trace": ["value"], "depths_of": ["trace"], "levels_of": ["trace", "top"],
+        "calls_of": ["trace", "top"], "open_heights": ["trace", "top"], "turned": ["trace"],
+    },
+    "lazyspill.plans": {
+        "ends_of": ["trace", "registers", "top"], "is_plan": ["trace", "registers", "top", "value"],
+        "counts_of": ["trace", "registers", "top", "plan"], "lazy_plan": ["trace", "registers", "top"],
+        "moved_by": ["trace", "registers", "top", "moments"], "turning_moments": ["trace", "registers", "top"],
+    },
+}
+
+
+def source_of(name):
+    with open(os.path.join(PACKAGE, name), encoding="ascii") as file:
+        return file.read()
+
+
+class LayoutTest(unittest.TestCase):
+
+    def test_each_function_is_defined_in_its_file_with_its_arguments(self):
+        for module, functions in INTERFACE.items():
+            for name, arguments in functions.items():
+                with self.subTest(module=module, name=name):
+                    function = getattr(import_module(module), name)
+                    self.assertEqual(function.__module__, module)
+                    self.assertEqual(list(inspect.signature(function).parameters), arguments)
+
+    def test_the_folder_holds_only_python_files(self):
+        for name in os.listdir(PACKAGE):
+            if name != "__pycache__":
+                self.assertRegex(name, r"\A[a-z0-9_]+\.py\Z")
+
+    def test_sizes(self):
+        for name in os.listdir(PACKAGE):
+            if name == "__pycache__":
+                continue
+            text = source_of(name)
+            lines = text.splitlines()
+            self.assertLess(len(lines), 400, name)
+            self.assertLessEqual(max(map(len, lines)), 120, name)
+            self.assertRegex(text, r"\A[ -~\n]*\Z")
+            for node in ast.walk(ast.parse(text)):
+                if isinstance(node, ast.FunctionDef):
+                    self.assertLessEqual(node.end_lineno - node.lineno, 39, (name, node.name))
+
+
+if __name__ == "__main__":
+    unittest.main()
