@@ -1,6 +1,6 @@
 """What the parameters that many functions share must be, and the errors if they are not."""
 
-from lazyspill.errors import InvalidRegisters, InvalidTop, InvalidTrace
+from lazyspill.errors import InvalidNumber, InvalidRegisters, InvalidTop, InvalidTrace
 
 MOST_STEPS = 1000
 MOST_REGISTERS = 10 ** 30 - 1
@@ -46,8 +46,19 @@ def check_top(top, most):
         raise InvalidTop("top is not an integer in its range")
 
 
-def check_machine(registers, top):
-    """Raise InvalidRegisters or InvalidTop unless there is a machine with these numbers."""
+def check_registers(registers):
+    """Raise InvalidRegisters unless a value is a number of registers."""
     if not is_integer(registers) or not 1 <= registers <= MOST_REGISTERS:
         raise InvalidRegisters("registers is not an integer in its range")
+
+
+def check_machine(registers, top):
+    """Raise InvalidRegisters or InvalidTop unless there is a machine with these numbers."""
+    check_registers(registers)
     check_top(top, registers)
+
+
+def check_number(number, least, most):
+    """Raise InvalidNumber unless a value is an integer from least to most, or from least on if most is None."""
+    if not is_integer(number) or number < least or (most is not None and number > most):
+        raise InvalidNumber("a number is not an integer in its range")

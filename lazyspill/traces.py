@@ -36,6 +36,11 @@ def levels_of(trace, top):
     return levels_above(depths_of(trace), top)
 
 
+def call_levels_of(levels):
+    """Return the list of the levels of the calls in the order of their pushes, for the levels at all moments."""
+    return [after for before, after in zip(levels, levels[1:]) if before < after]
+
+
 def pops_of(levels):
     """Return a dict from the step that pushes a call to the step that pops it, without the open calls."""
     pops = {}
@@ -66,7 +71,7 @@ def calls_of(trace, top):
     levels = levels_of(trace, top)
     pops = pops_of(levels)
     pushes = [step for step in range(len(trace)) if levels[step] < levels[step + 1]]
-    call_levels = [levels[push + 1] for push in pushes]
+    call_levels = call_levels_of(levels)
     heights = heights_of(call_levels)
     return [
         (push, pops.get(push), level, height)

@@ -17,6 +17,25 @@ INTERFACE = {
         "counts_of": ["trace", "registers", "top", "plan"], "lazy_plan": ["trace", "registers", "top"],
         "moved_by": ["trace", "registers", "top", "moments"], "turning_moments": ["trace", "registers", "top"],
     },
+    "lazyspill.rows": {
+        "row_of": ["trace", "top"], "written_by": ["row", "room"], "written_along": ["trace", "registers", "top"],
+        "is_row": ["value"], "trace_of_row": ["row", "top"], "count_traces": ["row"],
+        "count_quiet": ["pushes", "room"], "sum_written": ["pushes", "room"],
+    },
+    "lazyspill.trees": {
+        "is_tree": ["value"], "trace_of_tree": ["tree"], "tree_of_trace": ["trace"], "count_orders": ["tree"],
+        "least_order": ["tree"], "same_calls": ["one_tree", "other_tree"], "frames_written": ["tree", "registers"],
+    },
+    "lazyspill.traps": {
+        "blocks_of": ["trace", "registers", "top"], "fewest_traps": ["trace", "registers", "top"],
+        "best_plan": ["trace", "registers", "top"], "plan_in_blocks": ["trace", "registers", "top", "begins"],
+        "stretches_of": ["trace", "registers", "top"], "shows_traps": ["trace", "registers", "top", "value"],
+        "traps_by_room": ["trace", "top"],
+    },
+    "lazyspill.orders": {
+        "trap_range": ["tree", "registers", "top"], "best_order": ["tree", "registers", "top"],
+        "worst_order": ["tree", "registers", "top"],
+    },
 }
 
 

@@ -8,7 +8,7 @@ from lazyspill.plans import counts_of, ends_of, is_plan, lazy_plan, moved_by, tu
 from lazyspill.traces import calls_of
 from tests.samples import (
     ANY_VALUES, HILL, MOST_REGISTERS, ends_by_definition, first_error, long_traces, plan_error, raised,
-    registers_error, top_error, trace_error, traces_up_to,
+    registers_error, returns_new_list, top_error, trace_error, traces_up_to,
 )
 
 MACHINES = ((1, 0), (1, 1), (2, 0), (2, 1), (2, 2), (3, 0), (3, 1), (5, 2), (9, 0), (MOST_REGISTERS, 0))
@@ -318,11 +318,7 @@ class ConventionsTest(unittest.TestCase):
 
     def test_returned_lists_are_new(self):
         for function in MACHINE_ARGS:
-            first = function(HILL, 3, 0)
-            kept = list(first)
-            first.append("more")
-            first[0] = "other"
-            self.assertEqual(function(HILL, 3, 0), kept)
+            self.assertTrue(returns_new_list(function, HILL, 3, 0))
 
     def test_arguments_stay_as_they_are(self):
         for plan in (lazy_plan(HILL, 3, 0), [0] * 19, [None] * 19, [[0], {"a": [1]}]):

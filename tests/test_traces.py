@@ -6,34 +6,11 @@ from itertools import product
 from lazyspill.errors import InvalidTop, InvalidTrace, NotClosed
 from lazyspill.traces import calls_of, depths_of, is_trace, levels_of, open_heights, turned
 from tests.samples import (
-    ANY_VALUES, HILL, SLOPE, first_error, long_traces, raised, top_error, trace_error, traces_up_to,
+    ANY_VALUES, HILL, SLOPE, calls_by_definition, depth_at, first_error, levels_by_definition, long_traces,
+    raised, returns_new_list, top_error, trace_error, traces_up_to,
 )
 
 TOPPED = (levels_of, calls_of, open_heights)
-
-
-def depth_at(trace, moment):
-    return trace[:moment].count("+") - trace[:moment].count("-")
-
-
-def levels_by_definition(trace, top):
-    return [max(depth_at(trace, moment) - top, 0) for moment in range(len(trace) + 1)]
-
-
-def calls_by_definition(trace, top):
-    """Return the calls straight from point [9]."""
-    depths = [depth_at(trace, moment) for moment in range(len(trace) + 1)]
-    levels = [max(depth - top, 0) for depth in depths]
-    found = []
-    for push, sign in enumerate(trace):
-        own = depths[push + 1]
-        if sign == "-" or own <= top:
-            continue
-        pop = next((step for step in range(push + 1, len(trace)) if depths[step + 1] < own), None)
-        last = len(trace) if pop is None else pop
-        greatest = max(levels[push + 1:last + 1])
-        found.append((push, pop, own - top, greatest - (own - top) + 1))
-    return found
 
 
 class ExamplesTest(unittest.TestCase):
@@ -202,11 +179,7 @@ class ConventionsTest(unittest.TestCase):
         for function, args in (
             (depths_of, (HILL,)), (levels_of, (HILL, 1)), (calls_of, (HILL, 1)), (open_heights, (SLOPE, 0)),
         ):
-            first = function(*args)
-            kept = list(first)
-            first.append("more")
-            first[0] = "other"
-            self.assertEqual(function(*args), kept)
+            self.assertTrue(returns_new_list(function, *args))
 
     def test_arguments_stay_as_they_are(self):
         value = [1, ["+"], {"a": [0]}]

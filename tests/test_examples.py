@@ -1,0 +1,60 @@
+"""The examples of the document, word for word, run as one session."""
+
+import doctest
+import unittest
+
+EXAMPLES = """
+>>> hill = "+++++----++++-----"
+>>> slope = "+++++---"
+
+>>> from lazyspill.traces import calls_of, depths_of, is_trace, levels_of, open_heights, turned
+>>> [depths_of("++-"), levels_of("++-", 1), is_trace("+--"), turned("+++--+--")]
+[[0, 1, 2, 1], [0, 0, 1, 0], False, '++-++---']
+>>> [calls_of("++-+", 0), calls_of("++-+", 1), open_heights(slope, 0)]
+[[(0, None, 1, 2), (1, 2, 2, 1), (3, None, 2, 1)], [(1, 2, 1, 1), (3, None, 1, 1)], [5, 4]]
+
+>>> from lazyspill.plans import counts_of, lazy_plan, moved_by, turning_moments
+>>> [lazy_plan(hill, 3, 0), counts_of(hill, 3, 0, lazy_plan(hill, 3, 0))]
+[[0, 0, 0, 0, 1, 2, 2, 2, 2, 1, 1, 1, 1, 2, 2, 2, 2, 1, 0], (3, 3, 6)]
+>>> [turning_moments(hill, 3, 0), moved_by(hill, 3, 0, [5, 9, 13, 18]), moved_by(hill, 3, 0, [5, 18])]
+[[5, 9, 13, 18], 6, 4]
+
+>>> from lazyspill.rows import count_quiet, count_traces, row_of, sum_written, trace_of_row, written_by
+>>> [row_of(hill, 0), row_of(hill, 1), [written_by(row_of(hill, 0), room) for room in range(6)]]
+[[2, 2, 2, 2, 1], [2, 2, 2, 2], [9, 7, 5, 3, 1, 0]]
+>>> [count_traces(row) for row in [[4], [3, 1], [2, 2], [2, 1, 1], [1, 1, 1, 1]]]
+[1, 6, 1, 5, 1]
+>>> [count_quiet(3, 2), sum_written(3, 1), len(trace_of_row([2, 1], 1))]
+[4, 5, 8]
+
+>>> from lazyspill.trees import count_orders, frames_written, least_order, same_calls, trace_of_tree, tree_of_trace
+>>> [tree_of_trace(hill), trace_of_tree([1, 2, 2, 1]), count_orders([1, 2, 3, 2, 1]), least_order([1, 2, 3, 2, 1])]
+[[1, 2, 3, 4, 5, 2, 3, 4, 5], '++-+--+-', 4, [1, 1, 2, 2, 3]]
+>>> [frames_written(tree_of_trace(hill), 4), same_calls([1, 2, 1], [1, 1, 2]), same_calls([1, 2, 2], [1, 2, 3])]
+[[2, 0, 0, 0, 0, 0, 0, 0, 0], True, False]
+
+>>> from lazyspill.traps import best_plan, blocks_of, fewest_traps, plan_in_blocks, shows_traps, traps_by_room
+>>> [blocks_of(hill, 3, 0), fewest_traps(hill, 3, 0), counts_of(hill, 3, 0, best_plan(hill, 3, 0))]
+[[(0, 3), (4, 8), (9, 12), (13, 16), (17, 18)], 4, (3, 3, 4)]
+>>> [plan_in_blocks("++++--", 3, 0, [0, 2, 4]), shows_traps(hill, 3, 0, [(0, 4), (4, 9), (9, 13)]), traps_by_room("++++--", 0)]
+[[0, 0, 0, 0, 1, 1, 1], True, [6, 3, 1, 1, 0]]
+
+>>> from lazyspill.orders import best_order, trap_range
+>>> calls = [1, 2, 3, 4, 5, 2, 3, 4, 5, 2, 3, 4]
+>>> [trap_range(calls, 3, 0), best_order(calls, 3, 0), fewest_traps(trace_of_tree(calls), 3, 0)]
+[(4, 5), [1, 2, 3, 4, 5, 2, 3, 4, 2, 3, 4, 5], 5]
+"""
+
+
+class ExamplesTest(unittest.TestCase):
+
+    def test_examples(self):
+        session = doctest.DocTestParser().get_doctest(EXAMPLES, {}, "examples", None, 0)
+        report = []
+        found = doctest.DocTestRunner(verbose=False).run(session, out=report.append)
+        self.assertEqual(found.failed, 0, "".join(report))
+        self.assertEqual(found.attempted, EXAMPLES.count(">>> "))
+
+
+if __name__ == "__main__":
+    unittest.main()

@@ -1,0 +1,110 @@
+"""The greatest sizes that the document allows, each call in well under a second."""
+
+import time
+import unittest
+
+from lazyspill.orders import best_order, trap_range, worst_order
+from lazyspill.plans import counts_of, ends_of, is_plan, lazy_plan, moved_by, turning_moments
+from lazyspill.rows import (
+    count_quiet, count_traces, is_row, row_of, sum_written, trace_of_row, written_along, written_by,
+)
+from lazyspill.traces import calls_of, depths_of, is_trace, levels_of, open_heights, turned
+from lazyspill.traps import (
+    best_plan, blocks_of, fewest_traps, plan_in_blocks, shows_traps, stretches_of, traps_by_room,
+)
+from lazyspill.trees import (
+    count_orders, frames_written, is_tree, least_order, same_calls, trace_of_tree, tree_of_trace,
+)
+from tests.samples import MOST_REGISTERS, long_traces, long_trees
+
+# Each call takes less than a hundredth of this time; a slow machine does not matter, a slow way does.
+LIMIT = 0.5
+TRACES = (
+    "+" * 1000, "+" * 500 + "-" * 500, "+-" * 500, "+" * 250 + "+-" * 250 + "-" * 250, ("+" * 25 + "-" * 25) * 20,
+    *long_traces(3),
+)
+MACHINES = ((1, 0), (1, 1), (9, 2), (60, 3), (500, 0), (1000, 0), (1000, 999), (MOST_REGISTERS, 0))
+CHAIN = list(range(1, 401))
+TREES = (CHAIN, [1] * 400, CHAIN[:20] * 20, CHAIN[:200] * 2, sum([CHAIN[:length] for length in range(1, 28)], []), *long_trees(3))
+ROWS = ([1] * 1000, [1000 - index for index in range(1000)], [MOST_REGISTERS] * 1000, [500], [1] * 500)
+FORTY = (
+    CHAIN[:40], sum([CHAIN[:length] for length in (4, 5, 6, 7, 8, 9)], [1]), [1, 2] * 6 + [3] * 5 + [4] * 6,
+    [1, *range(2, 7), *range(2, 8), *range(2, 9), *range(2, 10), *range(2, 5), 1, 2, 3, 1, 2, 1, 1, 2, 3, 4],
+    [1, 2, 3, 3, 4, 3, 4, 5, 3, 4, 5, 6, 2, 3, 2, 3, 4, 2, 3, 3, 2, 3, 4, 4, 1, 2, 2, 3, 1, 2, 3, 1, 2, 1, 1, 2, 3, 4, 4, 4],
+)
+
+
+class SizesTest(unittest.TestCase):
+
+    def quick(self, function, *args):
+        """Return what a call returns, and fail if it takes long."""
+        begin = time.process_time()
+        result = function(*args)
+        self.assertLess(time.process_time() - begin, LIMIT, function.__name__)
+        return result
+
+    def test_traces(self):
+        for trace in TRACES:
+            self.assertEqual(len(trace), 1000)
+            self.assertIs(self.quick(is_trace, trace), True)
+            self.quick(depths_of, trace)
+            for top in (0, 1, 500, 1000):
+                for function in (levels_of, calls_of, open_heights, row_of, traps_by_room):
+                    self.quick(function, trace, top)
+            if trace.count("-") == 500:
+                self.quick(turned, trace)
+
+    def test_plans(self):
+        for trace in TRACES:
+            for registers, top in MACHINES:
+                plan = self.quick(lazy_plan, trace, registers, top)
+                self.assertIs(self.quick(is_plan, trace, registers, top, plan), True)
+                self.quick(counts_of, trace, registers, top, plan)
+                self.quick(moved_by, trace, registers, top, list(range(1001)))
+                for function in (ends_of, turning_moments, written_along):
+                    self.quick(function, trace, registers, top)
+
+    def test_traps(self):
+        for trace in TRACES:
+            for registers, top in MACHINES:
+                for function in (fewest_traps, best_plan):
+                    self.quick(function, trace, registers, top)
+                begins = [begin for begin, last in self.quick(blocks_of, trace, registers, top)]
+                for several in (begins, list(range(1001))):
+                    self.quick(plan_in_blocks, trace, registers, top, several)
+                stretches = self.quick(stretches_of, trace, registers, top)
+                for several in (stretches, [(step, step + 1) for step in range(1000)], [(0, 1000)]):
+                    self.quick(shows_traps, trace, registers, top, several)
+
+    def test_rows(self):
+        for row in ROWS:
+            self.assertIs(self.quick(is_row, row), True)
+            self.quick(written_by, row, 1)
+            if sum(row) <= 500:
+                self.quick(trace_of_row, row, 0)
+        for row in ([1] * 300, [300], [299, 1], list(range(24, 0, -1)), [10] * 30, [100, 99, 98, 1, 1, 1]):
+            self.quick(count_traces, row)
+        for room in (0, 1, 2, 50, 100, 199, 200, MOST_REGISTERS):
+            self.quick(count_quiet, 200, room)
+            self.quick(sum_written, 200, room)
+
+    def test_trees(self):
+        for tree in TREES:
+            self.assertIs(self.quick(is_tree, tree), True)
+            trace = self.quick(trace_of_tree, tree)
+            self.assertEqual(self.quick(tree_of_trace, trace), tree)
+            self.quick(count_orders, tree)
+            least = self.quick(least_order, tree)
+            self.assertIs(self.quick(same_calls, tree, least), True)
+            self.quick(frames_written, tree, 2)
+
+    def test_orders(self):
+        for tree in FORTY:
+            self.assertLessEqual(len(tree), 40)
+            for registers, top in ((1, 0), (2, 0), (3, 0), (5, 0), (8, 0), (9, 1), (1, 1)):
+                for function in (trap_range, best_order, worst_order):
+                    self.quick(function, tree, registers, top)
+
+
+if __name__ == "__main__":
+    unittest.main()
