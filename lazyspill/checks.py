@@ -15,29 +15,34 @@ def is_integer(value):
 
 def is_list_of_integers(value):
     """Return whether a value is a list that contains nothing but integers."""
-    return isinstance(value, list) and all([is_integer(item) for item in value])
+    if not isinstance(value, list):
+        return False
+    # Not by is_integer: lists are long, and a call for each item takes most of the time.
+    return not [item for item in value if item is True or item is False or not isinstance(item, int)]
 
 
-def wrong_step(text):
-    """Return the index of the first character that is no step or pops an empty stack, or None."""
-    depth = 0
-    for index, step in enumerate(text):
+def depths_along(steps, depth):
+    """Return the list of the depths from a depth on, up to the first step that is none or pops an empty stack."""
+    depths = [depth]
+    for step in steps:
         if step == "+":
             depth += 1
         elif step == "-" and depth > 0:
             depth -= 1
         else:
-            return index
-    return None
+            break
+        depths.append(depth)
+    return depths
 
 
-def check_trace(trace):
-    """Raise InvalidTrace unless a value is a trace."""
+def checked_depths(trace):
+    """Return the list of the depths at all moments, or raise InvalidTrace unless a value is a trace."""
     if not isinstance(trace, str) or len(trace) > MOST_STEPS:
         raise InvalidTrace(None)
-    index = wrong_step(trace)
-    if index is not None:
-        raise InvalidTrace(index)
+    depths = depths_along(trace, 0)
+    if len(depths) <= len(trace):
+        raise InvalidTrace(len(depths) - 1)
+    return depths
 
 
 def check_top(top, most):

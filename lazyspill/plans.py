@@ -1,58 +1,79 @@
 """Plans: how many words are in memory at each moment, and how many words must be moved."""
 
-from lazyspill.checks import check_machine, check_trace, is_list_of_integers
+from lazyspill.checks import check_machine, checked_depths, is_list_of_integers
 from lazyspill.errors import InvalidMoments, InvalidPlan
-from lazyspill.traces import depths_of, levels_above
+
+
+def less_up_to(depth, number):
+    """Return the list of the depths from 0 up to a depth, each one less a number, or 0 if that is below 0."""
+    least = min(number, depth)
+    return [0] * least + list(range(depth + 1 - least))
+
+
+def ends_at(depths, registers, top):
+    """Return the list of the tuples (lower end, upper end) at some depths."""
+    # At once for all depths that there can be, which is faster than one after another.
+    deepest = max(depths, default=0)
+    ends = list(zip(less_up_to(deepest, registers), less_up_to(deepest, top)))
+    return [ends[depth] for depth in depths]
 
 
 def ends_of(trace, registers, top):
     """Return the list of the tuples (lower end, upper end) at all moments."""
-    check_trace(trace)
+    depths = checked_depths(trace)
     check_machine(registers, top)
-    room = registers - top
-    levels = levels_above(depths_of(trace), top)
-    return [(max(0, level - room), level) for level in levels]
+    return ends_at(depths, registers, top)
 
 
-def check_plan(ends, plan):
-    """Raise InvalidPlan unless a value is a plan for these ends."""
-    if not is_list_of_integers(plan) or len(plan) != len(ends):
+def check_plan(depths, registers, top, plan):
+    """Raise InvalidPlan unless a value is a plan for the depths at all moments and a machine."""
+    if not is_list_of_integers(plan) or len(plan) != len(depths):
         raise InvalidPlan(None)
-    for index, (lower, upper) in enumerate(ends):
-        if not lower <= plan[index] <= upper:
+    for index, number in enumerate(plan):
+        # At most all registers hold words, and at least the topmost ones, unless all words are in registers.
+        held = depths[index] - number
+        if held > registers or (held < top and number > 0) or number < 0:
             raise InvalidPlan(index)
 
 
 def is_plan(trace, registers, top, value):
     """Return whether any value is a plan for the trace and the machine."""
-    ends = ends_of(trace, registers, top)
+    depths = checked_depths(trace)
+    check_machine(registers, top)
     try:
-        check_plan(ends, value)
+        check_plan(depths, registers, top, value)
     except InvalidPlan:
         return False
     return True
 
 
-def rises_of(plan):
-    """Return the list of how much the number in memory rises at each step, below 0 if it falls."""
-    return [after - before for before, after in zip(plan, plan[1:])]
-
-
 def counts_of(trace, registers, top, plan):
     """Return the tuple (written, read, traps) of a plan."""
-    check_plan(ends_of(trace, registers, top), plan)
-    rises = [rise for rise in rises_of(plan) if rise != 0]
-    written = sum([rise for rise in rises if rise > 0])
-    read = sum([-rise for rise in rises if rise < 0])
-    return (written, read, len(rises))
+    depths = checked_depths(trace)
+    check_machine(registers, top)
+    check_plan(depths, registers, top, plan)
+    written = traps = ahead = 0
+    for number in plan:
+        if number != ahead:
+            traps += 1
+            if number > ahead:
+                written += number - ahead
+            ahead = number
+    # What was written and not read is in memory.
+    return (written, written - ahead, traps)
 
 
 def lazy_plan(trace, registers, top):
     """Return the lazy plan."""
+    depths = checked_depths(trace)
+    check_machine(registers, top)
     plan = []
     number = 0
-    for lower, upper in ends_of(trace, registers, top):
-        number = min(max(number, lower), upper)
+    for depth in depths:
+        if number < depth - registers:
+            number = depth - registers
+        elif number > depth - top:
+            number = depth - top if depth > top else 0
         plan.append(number)
     return plan
 
@@ -70,18 +91,17 @@ def check_moments(last, moments):
 
 def moved_by(trace, registers, top, moments):
     """Return the sum for these moments; each plan moves at least as many words."""
-    ends = ends_of(trace, registers, top)
+    depths = checked_depths(trace)
+    check_machine(registers, top)
     check_moments(len(trace), moments)
     total = 0
     # Ahead of the first moment stands the empty stack.
     lower_ahead, upper_ahead = 0, 0
-    for index, moment in enumerate(moments):
-        lower, upper = ends[moment]
-        if index % 2 == 0:
-            total += lower - upper_ahead
-        else:
-            total += lower_ahead - upper
+    high = True
+    for lower, upper in ends_at([depths[moment] for moment in moments], registers, top):
+        total += lower - upper_ahead if high else lower_ahead - upper
         lower_ahead, upper_ahead = lower, upper
+        high = not high
     return total
 
 
@@ -89,12 +109,14 @@ def turning_moments(trace, registers, top):
     """Return the moments that show that no plan moves fewer words than the lazy plan."""
     moments = []
     writing = False
-    for step, rise in enumerate(rises_of(lazy_plan(trace, registers, top))):
-        if rise == 0:
+    ahead = 0
+    for moment, number in enumerate(lazy_plan(trace, registers, top)):
+        if number == ahead:
             continue
         # A further trap of the same kind takes the place of the one ahead.
-        if moments and writing == (rise > 0):
+        if moments and writing == (number > ahead):
             moments.pop()
-        moments.append(step + 1)
-        writing = rise > 0
+        moments.append(moment)
+        writing = number > ahead
+        ahead = number
     return moments

@@ -1,13 +1,13 @@
 """Traces: their depths and levels, and the calls that they make."""
 
-from lazyspill.checks import MOST_TOP, check_top, check_trace
+from lazyspill.checks import MOST_TOP, check_top, checked_depths
 from lazyspill.errors import InvalidTrace, NotClosed
 
 
 def is_trace(value):
     """Return whether any value is a trace."""
     try:
-        check_trace(value)
+        checked_depths(value)
     except InvalidTrace:
         return False
     return True
@@ -15,25 +15,19 @@ def is_trace(value):
 
 def depths_of(trace):
     """Return the list of the depths at all moments."""
-    check_trace(trace)
-    depth = 0
-    depths = [depth]
-    for step in trace:
-        depth += 1 if step == "+" else -1
-        depths.append(depth)
-    return depths
+    return checked_depths(trace)
 
 
 def levels_above(depths, top):
     """Return the list of the levels for a list of depths; `top` is any integer from 0 on."""
-    return [max(0, depth - top) for depth in depths]
+    return [depth - top if depth > top else 0 for depth in depths]
 
 
 def levels_of(trace, top):
     """Return the list of the levels at all moments."""
-    check_trace(trace)
+    depths = checked_depths(trace)
     check_top(top, MOST_TOP)
-    return levels_above(depths_of(trace), top)
+    return levels_above(depths, top)
 
 
 def call_levels_of(levels):
@@ -58,10 +52,12 @@ def heights_of(levels):
     heights = []
     # From the last call on: for each level, the greatest height of the calls so far that are
     # directly in a call still to come.
-    inner = {}
+    inner = [0] * (max(levels, default=0) + 2)
     for level in levels[::-1]:
-        height = inner.pop(level + 1, 0) + 1
-        inner[level] = max(inner.get(level, 0), height)
+        height = inner[level + 1] + 1
+        inner[level + 1] = 0
+        if inner[level] < height:
+            inner[level] = height
         heights.append(height)
     return heights[::-1]
 
@@ -86,6 +82,6 @@ def open_heights(trace, top):
 
 def turned(trace):
     """Return the closed trace with its steps in the opposite sequence, and `+` and `-` exchanged."""
-    if depths_of(trace)[-1] > 0:
+    if checked_depths(trace)[-1] > 0:
         raise NotClosed("the trace leaves words on the stack")
     return "".join(["-" if step == "+" else "+" for step in trace[::-1]])

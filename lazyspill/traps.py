@@ -1,9 +1,9 @@
 """Traps: how few steps must move words, and why no plan has fewer of them."""
 
-from lazyspill.checks import check_machine, check_trace, is_integer, is_list_of_integers
+from lazyspill.checks import check_machine, checked_depths, is_integer, is_list_of_integers
 from lazyspill.errors import InvalidBlocks
 from lazyspill.plans import ends_of
-from lazyspill.traces import depths_of, levels_above, levels_of
+from lazyspill.traces import levels_above, levels_of
 
 
 def begins_of(ends):
@@ -97,11 +97,11 @@ def is_pair_of_moments(value, last):
 
 def shows_traps(trace, registers, top, value):
     """Return whether any value is a list of stretches, each of which begins at the end of the one ahead or later."""
-    check_trace(trace)
+    depths = checked_depths(trace)
     check_machine(registers, top)
     if not isinstance(value, list):
         return False
-    levels = levels_above(depths_of(trace), top)
+    levels = levels_above(depths, top)
     ahead = 0
     for pair in value:
         if not is_pair_of_moments(pair, len(trace)) or pair[0] < ahead:
