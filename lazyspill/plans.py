@@ -63,12 +63,9 @@ def counts_of(trace, registers, top, plan):
     return (written, written - ahead, traps)
 
 
-def lazy_plan(trace, registers, top):
-    """Return the lazy plan."""
-    depths = checked_depths(trace)
-    check_machine(registers, top)
+def lazy_along(depths, registers, top, number):
+    """Return the numbers of the lazy plan for some depths side by side, with a number ahead of them."""
     plan = []
-    number = 0
     for depth in depths:
         if number < depth - registers:
             number = depth - registers
@@ -76,6 +73,13 @@ def lazy_plan(trace, registers, top):
             number = depth - top if depth > top else 0
         plan.append(number)
     return plan
+
+
+def lazy_plan(trace, registers, top):
+    """Return the lazy plan."""
+    depths = checked_depths(trace)
+    check_machine(registers, top)
+    return lazy_along(depths, registers, top, 0)
 
 
 def check_moments(last, moments):

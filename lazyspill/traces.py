@@ -75,9 +75,23 @@ def calls_of(trace, top):
     ]
 
 
+def open_heights_of(levels):
+    """Return the list of the heights of the open calls at the end, for the levels at all moments."""
+    heights = []
+    lowest = greatest = levels[-1]
+    # From the end on: the first level below all behind it stands ahead of the push of an open call.
+    for level in levels[::-1]:
+        if level < lowest:
+            heights.append(greatest - level)
+            lowest = level
+        elif level > greatest:
+            greatest = level
+    return heights[::-1]
+
+
 def open_heights(trace, top):
     """Return the list of the heights of the open calls at the end, the lowest call first."""
-    return [height for push, pop, level, height in calls_of(trace, top) if pop is None]
+    return open_heights_of(levels_of(trace, top))
 
 
 def turned(trace):

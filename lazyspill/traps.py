@@ -128,11 +128,12 @@ def turns_of(levels):
     return turns
 
 
-def traps_between(turns, room):
-    """Return the fewest traps for levels, beginning at 0, that turn at these ones."""
+def traps_along(turns, room, least, greatest):
+    """Return the tuple (traps, least, greatest) behind levels that turn at these ones.
+
+    Least and greatest are the levels between which the present block has been, before and behind.
+    """
     traps = 0
-    # The least and the greatest level of the present block.
-    least = greatest = 0
     for level in turns:
         # On the way each further block begins room + 1 levels behind the begin of the one ahead.
         if level > greatest:
@@ -145,6 +146,12 @@ def traps_between(turns, room):
             greatest -= blocks * (room + 1)
             least = level
             traps += blocks
+    return (traps, least, greatest)
+
+
+def traps_between(turns, room):
+    """Return the fewest traps for levels, beginning at 0, that turn at these ones."""
+    traps, _, _ = traps_along(turns, room, 0, 0)
     return traps
 
 

@@ -4,8 +4,8 @@ import random
 from itertools import permutations, product
 
 from lazyspill.errors import (
-    InvalidNumber, InvalidPlan, InvalidRegisters, InvalidRow, InvalidTop, InvalidTrace, InvalidTree, NotClosed,
-    SpillError,
+    InvalidNumber, InvalidPlan, InvalidRegisters, InvalidRow, InvalidRule, InvalidTop, InvalidTrace, InvalidTree,
+    NotClosed, SpillError,
 )
 
 HILL = "+++++----++++-----"
@@ -21,7 +21,15 @@ ANY_VALUES = (
     [1], [1, 1], [2, 1], [1, 2], [1, 3], [3, 2, 2, 1, 1], [1, 2, 3, 2, 1], [1, 2, 4], [1, 0], [2], [1, True],
     [1, 2, None], [1, "1"], [10 ** 29, 1], [1] * 400, [1] * 401, [1] * 1000, [1] * 1001, [0, 1, 2, 3],
     [(0, 4), (4, 9), (9, 13)], [(0, 3)], [(0, 2), (1, 3)], [(2, 0)], [[0, 3]], [(0, 3, 3)], [(True, 3)], (0, 3),
-    (), (0,), (0, 0, 0, 0), ("lazy",), (None, [1]), {}, {"trace": "++-"}, {"a": [1, (2, {"b": None})]},
+    (), (0,), (0, 0, 0, 0), (None, [1]), {}, {"trace": "++-"}, {"a": [1, (2, {"b": None})]},
+    ("lazy",), ("halving",), ("keep", 0), ("keep", 1), ("keep", 3), ("lot", 1), ("lot", 4), ("keep", -1), ("lot", 0),
+    ("keep", 4), ("lot", 5), ("keep", True), ("lot", True), ("keep", "1"), ("lot", None), ("keep",), ("lot",),
+    ("lazy", 0), ("halving", 1), ("keep", 1, 1), ["lazy"], ["keep", 1], ("LAZY",), ("",), (("lazy",),), ("other", 1),
+    (["keep"], 1), (1, "keep"), "halving", "keep 1", ("keep", 10 ** 30 - 1), ("lot", 10 ** 30),
+    [("", 0)], [("++-", 1), ("+", 0)], [("+--", 1)], [("+", -1)], [("+", True)], [["+", 1]], [("+", 1, 1)], [("+",)],
+    [("+", 0), None], [("+", 0)] * 50, [("+", 0)] * 51, [(None, 0)],
+    [1, 2, 3], [2, 9], [1, MOST_REGISTERS], [1, 10 ** 30], [1, 2, 2], [0, 1], [1, True], [2, "3"], [3, 2],
+    list(range(1, 21)), list(range(1, 22)), (1, 2), ["+", "+", 1, "-"], ["+", "-", "-"], ["+", 0], ["+", "x"],
     SpillError("text"), InvalidTrace(0), NotClosed("+"),
 )
 
@@ -194,6 +202,76 @@ def ends_by_definition(trace, registers, top):
         level = max(behind.count("+") - behind.count("-") - top, 0)
         found.append((max(level - (registers - top), 0), level))
     return found
+
+
+def lazy_by_definition(trace, registers, top):
+    """Return the lazy plan straight from point [8]."""
+    plan = [0]
+    for lower, upper in ends_by_definition(trace, registers, top)[1:]:
+        plan.append(max(lower, min(upper, plan[-1])))
+    return plan
+
+
+def apart(levels):
+    return max(levels) - min(levels)
+
+
+def blocks_by_definition(levels, room):
+    blocks = []
+    begin = 0
+    while begin < len(levels):
+        last = begin
+        while last + 1 < len(levels) and apart(levels[begin:last + 2]) <= room:
+            last += 1
+        blocks.append((begin, last))
+        begin = last + 1
+    return blocks
+
+
+def counts_by_definition(plan):
+    rises = [after - before for before, after in zip(plan, plan[1:])]
+    written = sum(rise for rise in rises if rise > 0)
+    return (written, written - plan[-1], sum(rise != 0 for rise in rises))
+
+
+def rules_for(room):
+    """Return all rules for machines with this room."""
+    keeps = [("keep", number) for number in range(room + 1)]
+    return [("lazy",), ("halving",), *keeps, *[("lot", number) for number in range(1, room + 2)]]
+
+
+def rule_error(registers, top, value):
+    room = registers - top
+    if type(value) is tuple and len(value) == 2 and type(value[0]) is str and type(value[1]) is int:
+        word, number = value
+        right = (word == "keep" and 0 <= number <= room) or (word == "lot" and 1 <= number <= room + 1)
+    else:
+        right = type(value) is tuple and value in (("lazy",), ("halving",))
+    return None if right else (InvalidRule,)
+
+
+def rule_plan_by_definition(trace, registers, top, rule):
+    """Return the plan of a rule straight from point [14]."""
+    room = registers - top
+    levels = levels_by_definition(trace, top)
+    ends = ends_by_definition(trace, registers, top)
+    plan = [0]
+    for moment in range(1, len(levels)):
+        number = plan[-1]
+        lower, upper = ends[moment]
+        if not lower <= number <= upper:
+            if rule[0] == "lazy":
+                number = lower if number < lower else upper
+            elif rule[0] == "keep":
+                number = max(levels[moment] - rule[1], 0)
+            elif rule[0] == "lot":
+                number = number + rule[1] if number < lower else max(number - rule[1], 0)
+            else:
+                begin, last = blocks_by_definition(levels[:moment + 1], room)[-1]
+                common = range(max(low for low, _ in ends[begin:last + 1]), min(up for _, up in ends[begin:last + 1]) + 1)
+                number = (common[0] + common[-1]) // 2
+        plan.append(number)
+    return plan
 
 
 def plan_error(trace, registers, top, value):

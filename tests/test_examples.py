@@ -43,6 +43,32 @@ EXAMPLES = """
 >>> calls = [1, 2, 3, 4, 5, 2, 3, 4, 5, 2, 3, 4]
 >>> [trap_range(calls, 3, 0), best_order(calls, 3, 0), fewest_traps(trace_of_tree(calls), 3, 0)]
 [(4, 5), [1, 2, 3, 4, 5, 2, 3, 4, 2, 3, 4, 5], 5]
+
+>>> from lazyspill.rules import forcing_trace, is_rule, most_in_block, plan_of_rule
+>>> [plan_of_rule("++++---", 3, 0, rule) for rule in [("lazy",), ("halving",), ("keep", 1), ("lot", 2)]]
+[[0, 0, 0, 0, 1, 1, 1, 1], [0, 0, 0, 0, 2, 2, 2, 1], [0, 0, 0, 0, 3, 3, 1, 1], [0, 0, 0, 0, 2, 2, 2, 0]]
+>>> [most_in_block(3, 0, rule) for rule in [("lazy",), ("halving",), ("keep", 1), ("keep", 0), ("keep", 2), ("lot", 2)]]
+[4, 3, 4, 4, None, None]
+
+>>> from lazyspill.futures import alike_with, are_alike, moved_behind, parting, parting_with, word_numbers
+>>> [word_numbers(slope, 0), word_numbers(slope, 1), moved_behind(slope, 3, 0, "--+")]
+[[4, 3], [4, 0], [-1, -1, 0]]
+>>> [are_alike("+-+", "+", 0), alike_with("++", "+++", 1, 0), alike_with("++", "+++", 1, 1), parting(slope, "++", 0)]
+[True, True, False, ('+', 1)]
+>>> [parting("++", "+++", 1), parting_with(slope, "++", 4, 0), parting_with("", "+", 2, 2)]
+[('+', 3), '--', '++']
+
+>>> from lazyspill.fits import machines_for, registers_for, telling_trace
+>>> [registers_for([(hill, 3)], 0), registers_for([(hill, 0)], 0), registers_for([(hill, 2)], 0), registers_for([(hill, 0), ("+" * 9, 2)], 0)]
+[(3, 3), (5, None), None, (7, 7)]
+>>> [machines_for([(hill, 2)], 2), telling_trace(0, [2, 4, 9])]
+[[(1, 4, 4), (2, 4, 4)], '+++++']
+
+>>> from lazyspill.rounds import traps_in_rounds, words_in_rounds
+>>> [words_in_rounds("++-", 3, 2, 0), words_in_rounds("++-", 10 ** 29, 2, 0), words_in_rounds(hill, 10 ** 29, 3, 0)]
+[(2, 0), (99999999999999999999999999999, 0), (300000000000000000000000000000, 300000000000000000000000000000)]
+>>> [traps_in_rounds("++-", 3, 2, 0), traps_in_rounds("++-", 10 ** 29, 2, 0), traps_in_rounds(hill, 2, 3, 0)]
+[1, 50000000000000000000000000000, 8]
 """
 
 

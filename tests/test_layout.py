@@ -36,6 +36,24 @@ INTERFACE = {
         "trap_range": ["tree", "registers", "top"], "best_order": ["tree", "registers", "top"],
         "worst_order": ["tree", "registers", "top"],
     },
+    "lazyspill.rules": {
+        "is_rule": ["registers", "top", "value"], "plan_of_rule": ["trace", "registers", "top", "rule"],
+        "most_in_block": ["registers", "top", "rule"], "forcing_trace": ["registers", "top", "rule", "traps"],
+        "restless_trace": ["registers", "top", "rule", "many"],
+    },
+    "lazyspill.futures": {
+        "word_numbers": ["trace", "top"], "moved_behind": ["trace", "registers", "top", "future"],
+        "are_alike": ["one", "other", "top"], "alike_with": ["one", "other", "registers", "top"],
+        "parting_with": ["one", "other", "registers", "top"], "parting": ["one", "other", "top"],
+    },
+    "lazyspill.fits": {
+        "registers_for": ["counts", "top"], "machines_for": ["counts", "most"],
+        "telling_trace": ["top", "choices"],
+    },
+    "lazyspill.rounds": {
+        "words_in_rounds": ["trace", "times", "registers", "top"],
+        "traps_in_rounds": ["trace", "times", "registers", "top"],
+    },
 }
 
 

@@ -3,11 +3,15 @@
 import time
 import unittest
 
+from lazyspill.fits import machines_for, registers_for, telling_trace
+from lazyspill.futures import alike_with, are_alike, moved_behind, parting, parting_with, word_numbers
 from lazyspill.orders import best_order, trap_range, worst_order
 from lazyspill.plans import counts_of, ends_of, is_plan, lazy_plan, moved_by, turning_moments
 from lazyspill.rows import (
     count_quiet, count_traces, is_row, row_of, sum_written, trace_of_row, written_along, written_by,
 )
+from lazyspill.rounds import traps_in_rounds, words_in_rounds
+from lazyspill.rules import forcing_trace, is_rule, most_in_block, plan_of_rule, restless_trace
 from lazyspill.traces import calls_of, depths_of, is_trace, levels_of, open_heights, turned
 from lazyspill.traps import (
     best_plan, blocks_of, fewest_traps, plan_in_blocks, shows_traps, stretches_of, traps_by_room,
@@ -15,7 +19,7 @@ from lazyspill.traps import (
 from lazyspill.trees import (
     count_orders, frames_written, is_tree, least_order, same_calls, trace_of_tree, tree_of_trace,
 )
-from tests.samples import MOST_REGISTERS, long_traces, long_trees
+from tests.samples import MOST_REGISTERS, long_traces, long_trees, rules_for
 
 # Each call takes less than a hundredth of this time; a slow machine does not matter, a slow way does.
 LIMIT = 0.5
@@ -104,6 +108,51 @@ class SizesTest(unittest.TestCase):
             for registers, top in ((1, 0), (2, 0), (3, 0), (5, 0), (8, 0), (9, 1), (1, 1)):
                 for function in (trap_range, best_order, worst_order):
                     self.quick(function, tree, registers, top)
+
+    def test_rules(self):
+        for trace in TRACES:
+            for registers, top in MACHINES:
+                for rule in (("lazy",), ("halving",), ("keep", 0), ("lot", 1)):
+                    self.assertIs(self.quick(is_rule, registers, top, rule), True)
+                    self.quick(most_in_block, registers, top, rule)
+                    self.quick(plan_of_rule, trace, registers, top, rule)
+        for registers, top in ((15, 0), (65, 50), (64, 50), (50, 50)):
+            for rule in rules_for(registers - top):
+                self.assertLessEqual(len(self.quick(forcing_trace, registers, top, rule, 5)), 1000)
+                if most_in_block(registers, top, rule) is None:
+                    self.assertLessEqual(len(self.quick(restless_trace, registers, top, rule, 20)), 1000)
+
+    def test_futures(self):
+        for trace in TRACES:
+            for top in (0, 1, 500, 1000):
+                self.quick(word_numbers, trace, top)
+                for other in ("", "+" * 1000, TRACES[-1], trace):
+                    self.quick(are_alike, trace, other, top)
+                    self.quick(parting, trace, other, top)
+            for registers, top in MACHINES:
+                for future in ("+" * 1000, "+-" * 500):
+                    self.quick(moved_behind, trace, registers, top, future)
+                for other in ("", "+" * 1000, TRACES[-1], trace):
+                    self.quick(alike_with, trace, other, registers, top)
+                    if registers <= 1000:
+                        self.quick(parting_with, trace, other, registers, top)
+
+    def test_fits(self):
+        for traces in (TRACES[:1] * 50, TRACES[1:2] * 50, TRACES[-1:] * 50, (TRACES * 7)[:50]):
+            for number in (0, 1, 100, 10 ** 30):
+                counts = [(trace, number) for trace in traces]
+                self.quick(machines_for, counts, 100)
+                for top in (0, 100, 1000):
+                    self.quick(registers_for, counts, top)
+        self.quick(telling_trace, 0, list(range(980, 1000)))
+
+    def test_rounds(self):
+        turning = ["+" * 997, "+" * 500 + "-" * 499, "+" * 250 + "+-" * 250 + "-" * 249, "+" * 60 + "+-" * 440 + "-" * 59]
+        for trace in (*TRACES, *turning):
+            for registers, top in ((1, 0), (60, 0), (61, 1), (310, 250), (MOST_REGISTERS, MOST_REGISTERS - 60)):
+                self.quick(traps_in_rounds, trace, 10 ** 30 - 1, registers, top)
+                self.quick(words_in_rounds, trace, 10 ** 30 - 1, registers, top)
+            self.quick(words_in_rounds, trace, 10 ** 30 - 1, MOST_REGISTERS, 0)
 
 
 if __name__ == "__main__":

@@ -9,35 +9,14 @@ from lazyspill.traps import (
     best_plan, blocks_of, fewest_traps, plan_in_blocks, shows_traps, stretches_of, traps_by_room,
 )
 from tests.samples import (
-    ANY_VALUES, HILL, MOST_REGISTERS, ends_by_definition, first_error, levels_by_definition, long_traces,
-    raised, registers_error, returns_new_list, top_error, trace_error, traces_up_to,
+    ANY_VALUES, HILL, MOST_REGISTERS, apart, blocks_by_definition, counts_by_definition, ends_by_definition,
+    first_error, levels_by_definition, long_traces, raised, registers_error, returns_new_list, top_error, trace_error,
+    traces_up_to,
 )
 
 MACHINES = ((1, 0), (1, 1), (2, 0), (2, 1), (2, 2), (3, 0), (3, 1), (5, 2), (9, 0), (MOST_REGISTERS, 0))
 LONG_MACHINES = (*MACHINES, (30, 1), (130, 30), (1000, 0), (999, 999), (MOST_REGISTERS, MOST_REGISTERS))
 MACHINE_ARGS = (blocks_of, fewest_traps, best_plan, stretches_of)
-
-
-def apart(levels):
-    return max(levels) - min(levels)
-
-
-def blocks_by_definition(levels, room):
-    blocks = []
-    begin = 0
-    while begin < len(levels):
-        last = begin
-        while last + 1 < len(levels) and apart(levels[begin:last + 2]) <= room:
-            last += 1
-        blocks.append((begin, last))
-        begin = last + 1
-    return blocks
-
-
-def counts_by_definition(plan):
-    rises = [after - before for before, after in zip(plan, plan[1:])]
-    written = sum(rise for rise in rises if rise > 0)
-    return (written, written - plan[-1], sum(rise != 0 for rise in rises))
 
 
 def plans_by_definition(trace, registers, top):
