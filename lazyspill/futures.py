@@ -6,12 +6,17 @@ from lazyspill.plans import lazy_along
 from lazyspill.traces import levels_above, open_heights_of
 
 
+def word_numbers_at(depths, top):
+    """Return for each word, the lowest one first, the greatest number of registers with which it is in memory."""
+    heights = open_heights_of(levels_above(depths, top))
+    return [height + top - 1 for height in heights] + [0] * min(top, depths[-1])
+
+
 def word_numbers(trace, top):
     """Return for each word, the lowest one first, the greatest number of registers with which it is in memory."""
     depths = checked_depths(trace)
     check_top(top, MOST_TOP)
-    heights = open_heights_of(levels_above(depths, top))
-    return [height + top - 1 for height in heights] + [0] * min(top, depths[-1])
+    return word_numbers_at(depths, top)
 
 
 def checked_future(future, depth):
@@ -132,11 +137,8 @@ def states_by_room(depths, top, rooms):
     return states
 
 
-def parting(one, other, top):
-    """Return the tuple (shortest future that tells two traces apart, least number of registers), or None."""
-    one_depths = checked_depths(one)
-    other_depths = checked_depths(other)
-    check_top(top, MOST_TOP)
+def parting_at(one_depths, other_depths, top):
+    """Return the tuple (length, sign, registers) of the parting of traces with these depths, or None."""
     if are_alike_at(one_depths, other_depths, top):
         return None
     least = max(top, 1)
@@ -150,5 +152,16 @@ def parting(one, other, top):
         # Pushes come before pops of the same length: the sign "+" is less than "-".
         if found is not None and (best is None or (*found, registers) < best):
             best = (*found, registers)
-    length, sign, registers = best
+    return best
+
+
+def parting(one, other, top):
+    """Return the tuple (shortest future that tells two traces apart, least number of registers), or None."""
+    one_depths = checked_depths(one)
+    other_depths = checked_depths(other)
+    check_top(top, MOST_TOP)
+    found = parting_at(one_depths, other_depths, top)
+    if found is None:
+        return None
+    length, sign, registers = found
     return (sign * length, registers)

@@ -47,11 +47,8 @@ def is_plan(trace, registers, top, value):
     return True
 
 
-def counts_of(trace, registers, top, plan):
-    """Return the tuple (written, read, traps) of a plan."""
-    depths = checked_depths(trace)
-    check_machine(registers, top)
-    check_plan(depths, registers, top, plan)
+def counts_along(plan):
+    """Return the tuple (written, read, traps) for the numbers of words in memory at all moments."""
     written = traps = ahead = 0
     for number in plan:
         if number != ahead:
@@ -61,6 +58,14 @@ def counts_of(trace, registers, top, plan):
             ahead = number
     # What was written and not read is in memory.
     return (written, written - ahead, traps)
+
+
+def counts_of(trace, registers, top, plan):
+    """Return the tuple (written, read, traps) of a plan."""
+    depths = checked_depths(trace)
+    check_machine(registers, top)
+    check_plan(depths, registers, top, plan)
+    return counts_along(plan)
 
 
 def lazy_along(depths, registers, top, number):

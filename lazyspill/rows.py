@@ -29,13 +29,18 @@ def is_row(value):
     return True
 
 
-def row_of(trace, top):
-    """Return the row: how many calls have the height 1, the height 2 and so on."""
-    heights = heights_of(call_levels_of(levels_of(trace, top)))
+def row_along(levels):
+    """Return the row for the levels at all moments."""
+    heights = heights_of(call_levels_of(levels))
     row = [0] * max(heights, default=0)
     for height in heights:
         row[height - 1] += 1
     return row
+
+
+def row_of(trace, top):
+    """Return the row: how many calls have the height 1, the height 2 and so on."""
+    return row_along(levels_of(trace, top))
 
 
 def written_by(row, room):

@@ -3,10 +3,12 @@
 import random
 from itertools import permutations, product
 
+from lazyspill.console import Console
 from lazyspill.errors import (
-    InvalidNumber, InvalidPlan, InvalidRegisters, InvalidRow, InvalidRule, InvalidTop, InvalidTrace, InvalidTree,
-    NotClosed, SpillError,
+    InvalidNumber, InvalidPlan, InvalidProgram, InvalidRegisters, InvalidRow, InvalidRule, InvalidTop, InvalidTrace,
+    InvalidTree, NotClosed, SpillError,
 )
+from lazyspill.machines import LimitRuleStack, LimitStack, RuleStack, Stack
 
 HILL = "+++++----++++-----"
 SLOPE = "+++++---"
@@ -30,7 +32,10 @@ ANY_VALUES = (
     [("+", 0), None], [("+", 0)] * 50, [("+", 0)] * 51, [(None, 0)],
     [1, 2, 3], [2, 9], [1, MOST_REGISTERS], [1, 10 ** 30], [1, 2, 2], [0, 1], [1, True], [2, "3"], [3, 2],
     list(range(1, 21)), list(range(1, 22)), (1, 2), ["+", "+", 1, "-"], ["+", "-", "-"], ["+", 0], ["+", "x"],
-    SpillError("text"), InvalidTrace(0), NotClosed("+"),
+    ["+", 10 ** 30], ["+"] * 1000, ["+"] * 1001, ("+",), [1] * 1000, [2, "+", True], ["+", [1]], ["+", None],
+    "+2 -1", "+2 -3", "+2  -1", "2 1", "1 2 2", "lazy 1", "lot", "lot 2", "run +1", "state", "undo", "stack 1 0",
+    SpillError("text"), InvalidTrace(0), NotClosed("+"), Console(), [Console()], Stack(1, 0), (Stack(1, 0),),
+    RuleStack(3, 0, ("keep", 1)), LimitStack(1, 0, 5), LimitRuleStack(1, 0, ("lazy",), 5), {"stack": Stack(2, 1)},
 )
 
 
@@ -204,12 +209,64 @@ def ends_by_definition(trace, registers, top):
     return found
 
 
-def lazy_by_definition(trace, registers, top):
-    """Return the lazy plan straight from point [8]."""
+def lazy_within(ends):
+    """Return the lazy plan for these ends, straight from point [8]."""
     plan = [0]
-    for lower, upper in ends_by_definition(trace, registers, top)[1:]:
+    for lower, upper in ends[1:]:
         plan.append(max(lower, min(upper, plan[-1])))
     return plan
+
+
+def lazy_by_definition(trace, registers, top):
+    return lazy_within(ends_by_definition(trace, registers, top))
+
+
+def programs_up_to(length, numbers):
+    """Return all programs of at most so many items with these numbers of registers."""
+    found = [[]]
+    for program in found:
+        if len(program) < length:
+            found += [[*program, item] for item in ("+", "-", *numbers) if program.count("+") > program.count("-") or item != "-"]
+    return found
+
+
+def some_program(source, length, numbers):
+    """Return a program of this length."""
+    program = []
+    likely = source.choice((0.4, 0.5, 0.6))
+    while len(program) < length:
+        if source.random() < 0.15:
+            program.append(source.choice(numbers))
+        elif source.random() < likely:
+            program.append("+")
+        elif program.count("+") > program.count("-"):
+            program.append("-")
+    return program
+
+
+def program_error(top, value):
+    if type(value) is not list or len(value) > 1000:
+        return (InvalidProgram, None)
+    depth = 0
+    for index, item in enumerate(value):
+        if type(item) is str and item in ("+", "-"):
+            depth += 1 if item == "+" else -1
+        elif type(item) is not int or not max(top, 1) <= item <= MOST_REGISTERS:
+            return (InvalidProgram, index)
+        if depth < 0:
+            return (InvalidProgram, index)
+    return None
+
+
+def program_ends_by_definition(registers, top, program):
+    """Return the ends at all moments, straight from point [34]."""
+    found = []
+    for moment in range(len(program) + 1):
+        behind = program[:moment]
+        level = max(behind.count("+") - behind.count("-") - top, 0)
+        present = [registers, *[item for item in behind if type(item) is int]][-1]
+        found.append((max(level - (present - top), 0), level))
+    return found
 
 
 def apart(levels):

@@ -3,6 +3,8 @@
 import doctest
 import unittest
 
+from lazyspill.errors import SpillError
+
 EXAMPLES = """
 >>> hill = "+++++----++++-----"
 >>> slope = "+++++---"
@@ -69,17 +71,64 @@ EXAMPLES = """
 [(2, 0), (99999999999999999999999999999, 0), (300000000000000000000000000000, 300000000000000000000000000000)]
 >>> [traps_in_rounds("++-", 3, 2, 0), traps_in_rounds("++-", 10 ** 29, 2, 0), traps_in_rounds(hill, 2, 3, 0)]
 [1, 50000000000000000000000000000, 8]
+
+>>> from lazyspill.changes import changing_best, changing_counts, changing_ends, changing_lazy
+>>> program = ["+", "+", "+", 1, "+", 4, "-"]
+>>> [changing_ends(3, 0, program)[3:6], changing_lazy(3, 0, program), changing_best(3, 0, program)]
+[[(0, 3), (2, 3), (3, 4)], [0, 0, 0, 0, 2, 3, 3, 3], [0, 0, 0, 0, 3, 3, 3, 3]]
+>>> changing_counts(3, 0, program, changing_lazy(3, 0, program))
+(3, 0, 2)
+
+>>> from lazyspill.machines import LimitStack, RuleStack, Stack
+>>> stack = Stack(3, 0)
+>>> [[stack.push() for turn in range(5)], [stack.pop() for turn in range(3)], stack.memory, stack.traps, stack.would("-", "+", 1)]
+[[0, 0, 0, 1, 1], [0, 0, 0], 2, 2, [-1, 0, 0]]
+>>> [stack.set_registers(1), stack.push(), stack.undo(), stack.program[5:], len(stack), stack == stack.twin()]
+[0, 0, None, ['-', '-', '-', 1], 9, True]
+>>> other = RuleStack(3, 0, ("keep", 1))
+>>> [[other.push() for turn in range(4)], other.described(), LimitStack(1, 0, 5).would("+", "+", "+")]
+[[0, 0, 0, 3], ['depth 4', 'memory 3', 'rule keep 1'], [0, 1, 1]]
+
+>>> from lazyspill.texts import format_rule, format_trace, parse_row, parse_rule, parse_trace, parse_tree
+>>> [format_trace(hill), parse_trace("+2 -1"), parse_tree("1 2 2"), parse_row(""), parse_rule(3, 0, "keep 1"), format_rule(3, 0, ("lazy",))]
+['+5 -4 +4 -5', '++-', [1, 2, 2], [], ('keep', 1), 'lazy']
+>>> parse_trace("+2 -3")
+raises InvalidSyntax(word=1)
+
+>>> parse_rule(3, 0, "lot")
+raises InvalidSyntax(word=1)
+
+>>> from lazyspill.console import Console
+>>> console = Console()
+>>> [console.execute(command) for command in ["stack 3 0", "run +5 -3", "state", "counts", "row", "numbers", "part +2", "undo"]]
+['ok', '2', 'depth 2, memory 2', '2 0 2', '1 1 1 1 1', '4 3', '+1 1', 'ok']
+>>> Console().execute("run +1 -2")
+raises Empty
 """
+
+
+def told(error):
+    """Return an error as the document writes it."""
+    fields = ", ".join(f"{name}={value!r}" for name, value in vars(error).items())
+    return f"raises {type(error).__name__}({fields})" if fields else f"raises {type(error).__name__}"
 
 
 class ExamplesTest(unittest.TestCase):
 
     def test_examples(self):
-        session = doctest.DocTestParser().get_doctest(EXAMPLES, {}, "examples", None, 0)
-        report = []
-        found = doctest.DocTestRunner(verbose=False).run(session, out=report.append)
-        self.assertEqual(found.failed, 0, "".join(report))
-        self.assertEqual(found.attempted, EXAMPLES.count(">>> "))
+        examples = doctest.DocTestParser().get_examples(EXAMPLES)
+        self.assertEqual(len(examples), EXAMPLES.count(">>> "))
+        names = {}
+        for example in examples:
+            with self.subTest(source=example.source):
+                if not example.want:
+                    exec(example.source, names)
+                    continue
+                try:
+                    shown = repr(eval(example.source, names))
+                except SpillError as error:
+                    shown = told(error)
+                self.assertEqual(shown, example.want.strip())
 
 
 if __name__ == "__main__":

@@ -50,10 +50,43 @@ INTERFACE = {
         "registers_for": ["counts", "top"], "machines_for": ["counts", "most"],
         "telling_trace": ["top", "choices"],
     },
+    "lazyspill.changes": {
+        "is_program": ["top", "value"], "changing_ends": ["registers", "top", "program"],
+        "changing_lazy": ["registers", "top", "program"], "changing_traps": ["registers", "top", "program"],
+        "changing_best": ["registers", "top", "program"],
+        "changing_counts": ["registers", "top", "program", "plan"],
+    },
+    "lazyspill.texts": {
+        "format_trace": ["trace"], "format_tree": ["tree"], "format_row": ["row"],
+        "format_rule": ["registers", "top", "rule"], "parse_trace": ["text"], "parse_tree": ["text"],
+        "parse_row": ["text"], "parse_rule": ["registers", "top", "text"],
+    },
+    "lazyspill.machines": {
+        "Stack": ["registers", "top"], "RuleStack": ["registers", "top", "rule"],
+        "LimitStack": ["registers", "top", "most"], "LimitRuleStack": ["registers", "top", "rule", "most"],
+    },
+    "lazyspill.console": {"Console": []},
     "lazyspill.rounds": {
         "words_in_rounds": ["trace", "times", "registers", "top"],
         "traps_in_rounds": ["trace", "times", "registers", "top"],
     },
+}
+# For each class the methods, with their arguments, that stand in its own body, and the properties.
+METHODS = {
+    "lazyspill.machines": {
+        "Stack": {
+            "push": [], "pop": [], "set_registers": ["number"], "undo": [], "would": ["items"], "twin": [],
+            "described": [], "__eq__": ["other"], "__len__": [],
+        },
+        "RuleStack": {"set_registers": ["number"], "would": ["items"], "described": [], "__eq__": ["other"]},
+        "LimitStack": {"described": [], "__eq__": ["other"]},
+        "LimitRuleStack": {"set_registers": ["number"], "described": [], "__eq__": ["other"]},
+    },
+    "lazyspill.console": {"Console": {"execute": ["command"]}},
+}
+PROPERTIES = {
+    "Stack": ["registers", "top", "depth", "memory", "written", "read", "traps", "program"],
+    "RuleStack": ["rule"], "LimitStack": ["most"],
 }
 
 
@@ -71,6 +104,15 @@ class LayoutTest(unittest.TestCase):
                     function = getattr(import_module(module), name)
                     self.assertEqual(function.__module__, module)
                     self.assertEqual(list(inspect.signature(function).parameters), arguments)
+
+    def test_each_method_stands_in_its_class(self):
+        for module, classes in METHODS.items():
+            for name, methods in classes.items():
+                own = vars(getattr(import_module(module), name))
+                for method, arguments in methods.items():
+                    self.assertEqual(list(inspect.signature(own[method]).parameters), ["self", *arguments], (name, method))
+                for given in PROPERTIES.get(name, []):
+                    self.assertIsInstance(own[given], property)
 
     def test_the_folder_holds_only_python_files(self):
         for name in os.listdir(PACKAGE):

@@ -1,10 +1,17 @@
 """The greatest sizes that the document allows, each call in well under a second."""
 
+import random
 import time
 import unittest
 
+from lazyspill.changes import (
+    changing_best, changing_counts, changing_ends, changing_lazy, changing_traps, is_program,
+)
+from lazyspill.console import Console
+from lazyspill.errors import InvalidCommand, InvalidSyntax
 from lazyspill.fits import machines_for, registers_for, telling_trace
 from lazyspill.futures import alike_with, are_alike, moved_behind, parting, parting_with, word_numbers
+from lazyspill.machines import LimitRuleStack, LimitStack, RuleStack, Stack
 from lazyspill.orders import best_order, trap_range, worst_order
 from lazyspill.plans import counts_of, ends_of, is_plan, lazy_plan, moved_by, turning_moments
 from lazyspill.rows import (
@@ -12,6 +19,9 @@ from lazyspill.rows import (
 )
 from lazyspill.rounds import traps_in_rounds, words_in_rounds
 from lazyspill.rules import forcing_trace, is_rule, most_in_block, plan_of_rule, restless_trace
+from lazyspill.texts import (
+    format_row, format_rule, format_trace, format_tree, parse_row, parse_rule, parse_trace, parse_tree,
+)
 from lazyspill.traces import calls_of, depths_of, is_trace, levels_of, open_heights, turned
 from lazyspill.traps import (
     best_plan, blocks_of, fewest_traps, plan_in_blocks, shows_traps, stretches_of, traps_by_room,
@@ -19,7 +29,7 @@ from lazyspill.traps import (
 from lazyspill.trees import (
     count_orders, frames_written, is_tree, least_order, same_calls, trace_of_tree, tree_of_trace,
 )
-from tests.samples import MOST_REGISTERS, long_traces, long_trees, rules_for
+from tests.samples import MOST_REGISTERS, long_traces, long_trees, rules_for, some_program
 
 # Each call takes less than a hundredth of this time; a slow machine does not matter, a slow way does.
 LIMIT = 0.5
@@ -153,6 +163,61 @@ class SizesTest(unittest.TestCase):
                 self.quick(traps_in_rounds, trace, 10 ** 30 - 1, registers, top)
                 self.quick(words_in_rounds, trace, 10 ** 30 - 1, registers, top)
             self.quick(words_in_rounds, trace, 10 ** 30 - 1, MOST_REGISTERS, 0)
+
+    def test_changes(self):
+        source = random.Random(2)
+        programs = [list(trace) for trace in TRACES] + [some_program(source, 1000, (5, 9, 300)) for turn in range(3)]
+        for program in (*programs, [1, MOST_REGISTERS] * 500, (["+"] * 400 + [5, 500]) * 2 + ["-"] * 196):
+            self.assertEqual(len(program), 1000)
+            self.assertIs(self.quick(is_program, 1, program), True)
+            for registers, top in ((1, 0), (5, 1), (900, 1), (MOST_REGISTERS, 0)):
+                for function in (changing_ends, changing_traps, changing_best):
+                    self.quick(function, registers, top, program)
+                plan = self.quick(changing_lazy, registers, top, program)
+                self.quick(changing_counts, registers, top, program, plan)
+
+    def test_machines(self):
+        makers = (
+            lambda: Stack(3, 1), lambda: RuleStack(3, 0, ("halving",)), lambda: LimitStack(3, 0, 10 ** 30 - 1),
+            lambda: LimitRuleStack(3, 0, ("lot", 2), 10 ** 30 - 1), lambda: Stack(MOST_REGISTERS, 0),
+        )
+        for maker in makers:
+            stack = maker()
+            for turn in range(300):
+                self.quick(stack.pop if turn % 7 in (3, 4) else stack.push)
+                self.quick(stack.would, *"+-+-+-+-+-+-")
+            twin = self.quick(stack.twin)
+            self.assertIs(self.quick(stack.__eq__, twin), True)
+            self.assertEqual([self.quick(len, twin), len(twin.program)], [300, 300])
+            self.quick(twin.described)
+            for turn in range(300):
+                self.quick(twin.undo)
+
+    def test_texts(self):
+        for trace in TRACES:
+            self.assertEqual(self.quick(parse_trace, self.quick(format_trace, trace)), trace)
+        for tree in TREES:
+            self.assertEqual(self.quick(parse_tree, self.quick(format_tree, tree)), tree)
+        for row in ROWS:
+            self.assertEqual(self.quick(parse_row, self.quick(format_row, row)), row)
+        for rule in rules_for(40):
+            self.assertEqual(self.quick(parse_rule, 40, 0, self.quick(format_rule, 40, 0, rule)), rule)
+        for text in ("9" * 10000, " " * 10000, "+1 " * 3333, "1 " * 5000, "-" * 10000, "+1 -1 " * 1666, "keep " * 2000):
+            for function, ahead in ((parse_trace, []), (parse_tree, []), (parse_row, []), (parse_rule, [3, 0])):
+                with self.assertRaises(InvalidSyntax):
+                    self.quick(function, *ahead, text)
+
+    def test_console(self):
+        for rule in ("", " halving", " lot 2"):
+            console = Console()
+            self.quick(console.execute, f"stack 9 1{rule}")
+            commands = ("run" + " +1 -1" * 250, "run +300 -150 +50", "undo", "run +250 -250", "run +9", "undo")
+            others = ("state", "counts", "row", "numbers", "fewest", "part +500 -400", "part" + " +1 -1" * 500)
+            for command in (*commands, *others, "run " + "+1 " * 3000 + "x", "part " + "+" * 9000):
+                try:
+                    self.quick(console.execute, command)
+                except InvalidCommand:
+                    self.assertGreater(len(command), 9000)
 
 
 if __name__ == "__main__":
