@@ -53,7 +53,7 @@ class Console:
             return self._run(runs_of(behind))
         if word == "registers" and len(behind) == 1:
             return self._set_registers(numbers_of(behind)[0])
-        if word == "part" and behind:
+        if word == "part":
             return self._parting(" ".join(behind))
         if not behind:
             return self._told(word)

@@ -127,10 +127,10 @@ def parse_rule(registers, top, text):
     words = words_of(text)
     if not words or words[0] not in ("lazy", "halving", "keep", "lot"):
         raise InvalidSyntax(0)
-    size = 2 if words[0] in ("keep", "lot") else 1
-    rule = rule_of(words[:size])
-    if rule is None or not fits_room(registers - top, rule):
+    rule = rule_of(words[:2])
+    # The first word is right, so what is wrong is the next one: another word, one too many, or none.
+    if not fits_room(registers - top, rule):
         raise InvalidSyntax(1)
-    if len(words) > size:
-        raise InvalidSyntax(size)
+    if len(words) > 2:
+        raise InvalidSyntax(2)
     return rule

@@ -382,6 +382,10 @@ class ErrorsTest(unittest.TestCase):
             wanted = machine or rule_error(registers, top, rule)
             self.assertEqual(raised(RuleStack, registers, top, rule), wanted)
             self.assertEqual(raised(LimitRuleStack, registers, top, rule, most), wanted or number_error(most))
+        for rule in (("keep", 1), ("lot", 2)):
+            for registers, top, right in ((1, 0, True), (1, 1, False), (2, 1, True), (9, 8, True), (9, 9, False)):
+                self.assertEqual(raised(RuleStack, registers, top, rule), None if right else (InvalidRule,))
+                self.assertEqual(raised(LimitRuleStack, registers, top, rule, 0), None if right else (InvalidRule,))
         self.assertEqual(raised(LimitRuleStack, 3, 4, None, -1), (InvalidTop,))
         self.assertEqual(raised(LimitRuleStack, 3, 3, None, -1), (InvalidRule,))
         self.assertEqual(raised(LimitRuleStack, 3, 3, ("lazy",), -1), (InvalidNumber,))

@@ -221,6 +221,13 @@ class ErrorsTest(unittest.TestCase):
                 self.assertEqual(raised(format_rule, registers, top, value), (wanted,))
             self.assertEqual(raised(format_rule, 3, 3, value), (InvalidRule,))
 
+    def test_the_room_tells_which_rules_there_are(self):
+        for rule in (("keep", 1), ("lot", 2)):
+            text = f"{rule[0]} {rule[1]}"
+            for registers, top, right in ((1, 0, True), (1, 1, False), (2, 1, True), (9, 8, True), (9, 9, False)):
+                self.assertEqual(raised(format_rule, registers, top, rule), None if right else (InvalidRule,))
+                self.assertEqual(raised(parse_rule, registers, top, text), None if right else (InvalidSyntax, 1))
+
 
 class ConventionsTest(unittest.TestCase):
 
